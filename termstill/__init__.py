@@ -1,0 +1,1 @@
+"""Termstill: terms that run, stand still and begin anew."""
