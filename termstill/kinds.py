@@ -37,6 +37,10 @@ class Still(Kind):
         """The words of the text."""
         return ["still", self.name, str(self.days), times_word(self.times)]
 
+    def happen(self, left, going, days):
+        """The pair (left, going) behind such an occasion of so many days."""
+        return (left, max(going, min(days, self.days)))
+
 
 class Anew(Kind):
     """If fewer days than `left` are left, such an occasion makes it so many."""
@@ -50,6 +54,10 @@ class Anew(Kind):
     def words(self):
         """The words of the text."""
         return ["anew", self.name, str(self.left), times_word(self.times)]
+
+    def happen(self, left, going, days):
+        """The pair (left, going) behind such an occasion, however long it lasts."""
+        return (max(left, self.left), going)
 
 
 class Lift(Kind):
@@ -65,6 +73,10 @@ class Lift(Kind):
     def words(self):
         """The words of the text."""
         return ["lift", self.name, str(self.by), str(self.top), times_word(self.times)]
+
+    def happen(self, left, going, days):
+        """The pair (left, going) behind such an occasion, however long it lasts."""
+        return (max(left, min(left + self.by, self.top)), going)
 
 
 def check_arguments(name, counts, times):

@@ -8,13 +8,17 @@ import unittest
 
 from tests.any_values import any_values, objects
 from termstill import basics
+from termstill.bounds import fewest, keepers, latest, latest_by, latest_story, needless
 from termstill.errors import InvalidKind, InvalidRule, InvalidStory, NoKind
 from termstill.kinds import Anew, Kind, Lift, Still
+from termstill.lapses import counted, lapse, standing
+from termstill.orders import greatest_order, in_order, least_order, told_story
+from termstill.papers import paper, paper_holds
 from termstill.rules import Rule
 from termstill.stories import Story
 
 BIG = 10**18
-# What the interface lists: files, their functions and classes, the methods of these, and their parameters.
+# What the interface lists: files, their functions with their parameters, and their classes with their methods.
 INTERFACE = {
     "errors": {
         "TermError": {}, "InvalidKind": {"__init__": "word"}, "InvalidRule": {"__init__": "word"},
@@ -40,6 +44,16 @@ INTERFACE = {
             "__str__": None,
         },
     },
+    "lapses": {"lapse": "rule story", "counted": "rule story", "standing": "rule story day"},
+    "orders": {
+        "told_story": "rule names", "in_order": "rule names", "greatest_order": "rule names",
+        "least_order": "rule names",
+    },
+    "bounds": {
+        "latest": "rule", "latest_story": "rule", "latest_by": "rule most", "fewest": "rule day",
+        "keepers": "rule day", "needless": "rule",
+    },
+    "papers": {"paper": "rule day", "paper_holds": "rule day value"},
 }
 
 
@@ -52,20 +66,25 @@ def snapshot(thing):
     return (type(thing), thing)
 
 
+def parameter_text(function):
+    told = inspect.signature(function).parameters.values()
+    return " ".join([str(parameter) for parameter in told if parameter.name != "self"])
+
+
 class Interface(unittest.TestCase):
     def test_everything_is_defined_in_its_file(self):
-        for module, classes in INTERFACE.items():
+        for module, listed in INTERFACE.items():
             found = importlib.import_module(f"termstill.{module}")
-            for name, methods in classes.items():
+            for name, parts in listed.items():
                 made = getattr(found, name)
                 self.assertEqual(made.__module__, f"termstill.{module}")
-                for method, parameters in methods.items():
+                if isinstance(parts, str):
+                    self.assertEqual(parameter_text(made), parts)
+                    continue
+                for method, parameters in parts.items():
                     self.assertIn(method, vars(made))
-                    if parameters is None:
-                        continue
-                    told = inspect.signature(getattr(made, method)).parameters.values()
-                    words = [str(parameter) for parameter in told if parameter.name != "self"]
-                    self.assertEqual(" ".join(words), parameters)
+                    if parameters is not None:
+                        self.assertEqual(parameter_text(getattr(made, method)), parameters)
 
     def test_the_package_itself_is_empty(self):
         package = importlib.import_module("termstill")
@@ -119,6 +138,9 @@ class Words(unittest.TestCase):
                 lambda: Rule(1, one, two), lambda: Rule(1, (), one, two), lambda: Rule(1, [one, two], None, [two, one]),
                 lambda: Story([(one, "a", two), one]), lambda: Story((two, one)), lambda: story.further([one, two]),
                 lambda: story.further(one), lambda: rule.kind(one), lambda: rule.only([one, two]), lambda: one == two,
+                lambda: told_story(rule, [one, two]), lambda: in_order(rule, (one, two)),
+                lambda: greatest_order(rule, [two, one]), lambda: least_order(rule, [one]),
+                lambda: paper_holds(rule, 5, one), lambda: paper_holds(rule, 5, ((one, two, 1),)),
             ):
                 try:
                     call()
@@ -133,7 +155,8 @@ class Objects(unittest.TestCase):
         rule = Rule.read("term 10 rests 5 6 cap 30\nstill talk 3 1\nanew owe 5 any")
         story = Story.read("3 talk 2; 9 owe 1")
         names, more, kinds, rests = ["owe"], [(9, "a", 1)], [Still("a", 1)], [6, 5]
-        seen = [rule, story, names, more, kinds, rests]
+        ended, several, told = Rule(4, (), None, [Anew("one", 1), Still("talk", 3, 2)]), ["talk", "owe"], [((0,), 9, 1)]
+        seen = [rule, story, names, more, kinds, rests, ended, several, told]
         ahead = snapshot(seen)
         calls = [
             lambda: str(rule), lambda: len(rule), lambda: rule.kind("owe"), lambda: rule.work(5),
@@ -142,6 +165,14 @@ class Objects(unittest.TestCase):
             lambda: story.upto(9), lambda: story.further(more), lambda: story == rule,
             lambda: Rule(3, rests, None, kinds),
             lambda: Story(more), lambda: len(story),
+            lambda: lapse(rule, story), lambda: counted(rule, story), lambda: standing(rule, story, 4),
+            lambda: standing(rule, story, 99),
+            lambda: told_story(rule, several), lambda: in_order(rule, several), lambda: greatest_order(rule, several),
+            lambda: least_order(rule, several), lambda: latest(rule), lambda: latest(ended), lambda: latest_story(rule),
+            lambda: latest_story(ended), lambda: latest_by(rule, 3), lambda: fewest(rule, 15), lambda: fewest(rule, 99),
+            lambda: keepers(rule, 20), lambda: keepers(ended, None), lambda: needless(ended), lambda: paper(rule, 40),
+            lambda: paper(ended, 9), lambda: paper(ended, 10), lambda: paper_holds(ended, 10, told),
+            lambda: paper_holds(ended, 10, paper(ended, 10)),
         ]
         first = [snapshot(call()) for call in calls]
         for call in calls[::-1] + calls:
@@ -166,6 +197,14 @@ class Objects(unittest.TestCase):
         for value in (rule.rests, rule.kinds, rule.names, rule.only(["talk"]).kinds, (rule + Anew("b", 1)).names):
             self.assertIs(type(value), tuple)
         for value in (story.occasions, story.upto(5).occasions, story.further([]).occasions, Story.read("").occasions):
+            self.assertIs(type(value), tuple)
+        for value in (
+            counted(rule, story), standing(rule, story, 0), told_story(rule, ["talk"]).occasions,
+            greatest_order(rule, ["talk"]),
+            least_order(rule, []), latest_story(rule.only([])).occasions, keepers(rule, 1), keepers(rule, 1)[0],
+            keepers(rule, None), needless(rule), paper(rule.only([]), 9), paper(rule.only([]), 9)[0],
+            paper(rule.only([]), 9)[0][0],
+        ):
             self.assertIs(type(value), tuple)
 
     def test_objects_are_not_iterable(self):
