@@ -1,9 +1,16 @@
 """Values of all sorts, for what the document describes for any value."""
 
+import re
+
+from termstill.desk import Desk
+from termstill.errors import InvalidText, NoKind, Refused
 from termstill.kinds import Anew, Lift, Still
+from termstill.live import Live
 from termstill.rules import Rule
 from termstill.stories import Story
+from termstill.unsure import Unsure
 
+BAD_NAMES = ["", "any", "none", "anew", "lift", "term", "talks", "Talk", "ta k", "t4", "\u00e4", None, 1, ["talk"]]
 
 def nested(inner, deep, make=list):
     for _ in range(deep):
@@ -34,17 +41,30 @@ def objects():
     ]
 
 
+def uncompared():
+    """Objects that are equal to themselves alone."""
+    live = Live(Rule(3))
+    live.begin("talk")
+    desk = Desk()
+    desk.say("rule term 3 rests none cap none")
+    return [
+        Unsure([]), Unsure([(0, 1, "talk", 1)]), Live(Rule(1)), live, Desk(), desk, InvalidText(0), Refused(1),
+        NoKind("a"),
+    ]
+
+
 def sequences():
     talk = Still("talk", 3, 1)
     return [
         [], (), [None], [True], [0], (0,), [7], ["talk"], ("talk",), [[]], [()], ((),), [talk], (talk, talk),
         ["talk", 3], ("talk", 3), (0, "talk", 1), [0, "talk", 1], [(0, "talk", 1)], [[0, "talk", 1]],
-        [Story()], (Rule(1), 1), nested(1, 8), nested("a", 8, tuple), nested(talk, 8), [[0], ["a"], (None, True)],
+        [Story()], (Rule(1), 1), [Live(Rule(1))], (Desk(), [Unsure([])]), (0, 1, "talk", 1), [(0, 1, "talk", 1)],
+        nested(1, 8), nested("a", 8, tuple), nested(talk, 8), [[0], ["a"], (None, True)],
     ]
 
 
 def any_values():
-    return [None] + bools() + integers() + strings() + objects() + sequences()
+    return [None] + bools() + integers() + strings() + objects() + uncompared() + sequences()
 
 
 def but(wanted):
@@ -62,6 +82,10 @@ def is_count(value):
 
 def is_number(value):
     return type(value) is int and value >= 0
+
+
+def is_name(value):
+    return type(value) is str and bool(re.fullmatch("[a-z]{1,4}", value)) and value not in BAD_NAMES
 
 
 def is_listing(value):

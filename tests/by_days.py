@@ -55,6 +55,19 @@ class Claim:
         if not self.lapsed:
             self.day += 1
 
+    def twin(self):
+        other = Claim(self.rule, self.day, self.left, self.going)
+        other.many = dict(self.many)
+        other.lapsed = self.lapsed
+        return other
+
+    def last(self):
+        """The day with which the claim lapses if nothing more happens."""
+        other = self.twin()
+        while not other.lapsed:
+            other.finish_day()
+        return other.day
+
 
 def told(rule, story):
     """The lapse, the indexes that count, and the pairs (left, going) at the beginnings of all days."""
@@ -131,6 +144,69 @@ def states_of_day(rule, states, most):
                 if state not in reached:
                     reached.add(state)
                     fresh.append(state)
+    return reached
+
+
+def first_partings(p, q):
+    """The earliest days with which, by some story, just p and just q lets the claim lapse; None if there is none.
+
+    Goes day by day over all pairs of how both claims stand.
+    """
+    found, seen, pairs, day = [None, None], set(), {(new_stand(p), new_stand(q))}, 0
+    while pairs and None in found:
+        later = set()
+        for one, two in pairs_of_day(p, q, pairs):
+            ends = [finished(p, day, one), finished(q, day, two)]
+            if None not in ends:
+                later.add(tuple(ends))
+            elif ends != [None, None]:
+                at = ends.index(None)
+                found[at] = day if found[at] is None else found[at]
+        day += 1
+        marks = {(day % 7, pair) for pair in later}
+        # Behind the first cap there are no pairs; without a cap nothing new comes any more.
+        pairs = later if p.cap or q.cap or not marks <= seen else set()
+        seen |= marks
+    return tuple(found)
+
+
+def new_stand(rule):
+    """How a claim stands at first: the days left, those of standing, and how often each kind counted."""
+    return (rule.length, 0, (0,) * len(rule))
+
+
+def finished(rule, day, stand):
+    """How the claim stands behind this day, or None if it lapses with it."""
+    claim = Claim(rule, day, *stand[:2])
+    claim.finish_day()
+    return None if claim.lapsed else (claim.left, claim.going, stand[2])
+
+
+def happened(rule, stand, name, days):
+    """How the claim stands behind an occasion."""
+    for at, kind in enumerate(rule.kinds):
+        if kind.name == name and (kind.times is None or stand[2][at] < kind.times):
+            claim = Claim(rule, 0, *stand[:2])
+            claim.change(kind, days)
+            used = [many + (some == at and kind.times is not None) for some, many in enumerate(stand[2])]
+            return (claim.left, claim.going, tuple(used))
+    return stand
+
+
+def pairs_of_day(p, q, pairs):
+    """All pairs of stands behind occasions of one day, of each name and each length that can make a difference."""
+    longest = {}
+    for kind in (*p.kinds, *q.kinds):
+        longest[kind.name] = max(longest.get(kind.name, 0), full_days(kind))
+    occasions = [(name, days) for name in longest for days in range(1, longest[name] + 1)]
+    reached, fresh = set(pairs), list(pairs)
+    while fresh:
+        one, two = fresh.pop()
+        for name, days in occasions:
+            pair = (happened(p, one, name, days), happened(q, two, name, days))
+            if pair not in reached:
+                reached.add(pair)
+                fresh.append(pair)
     return reached
 
 

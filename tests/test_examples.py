@@ -42,6 +42,30 @@ PAPERS = """
 >>> paper_holds(rule, 21, paper(rule, 21)), paper(rule, 20), paper_holds(rule, 30, ()), len(paper(rule, 40))
 (True, None, False, 8)
 """
+COMPARING = """
+>>> from termstill.comparing import alike, never_sooner, parting, sooner
+>>> p = Rule.read("term 3 rests none cap none\\nanew owe 2 any")
+>>> q = Rule.read("term 3 rests none cap none\\nanew owe 3 1")
+>>> story = parting(p, q)
+>>> (never_sooner(p, q), lapse(p, sooner(p, q)), min(lapse(p, story), lapse(q, story)),
+...  alike(p, Rule.read(str(p).replace("none cap", "6 cap"))))
+(False, 2, 2, False)
+"""
+UNSURE = """
+>>> from termstill.unsure import Unsure, deciding, fillings, lapses, settling, surely
+>>> some = Unsure([(7, 10, "talk", 3), (12, 15, "owe", 1)])
+>>> (len(fillings(some)), lapses(rule, some), surely(rule, some, 9), surely(rule, some, 16), deciding(rule, some),
+...  settling(rule, some, 1, 15))
+(16, (9, 14, 16, 17, 18), True, None, (0, 1), ())
+"""
+DESK = """
+>>> from termstill.desk import Desk
+>>> desk = Desk()
+>>> (desk.say("rule " + str(rule).replace("\\n", " ; ")), desk.say("wait 9"), desk.say("begin talk 3"),
+...  desk.say("stands"), desk.say("latest"), desk.say("wait 9"), desk.say("stands"))
+('9', 'lives', '14', '1 3', '21', 'lapsed', 'lapsed 14')
+"""
+SECTIONS = (LAPSES, ORDERS, BOUNDS, PAPERS, COMPARING, UNSURE, DESK)
 
 
 class Sessions(unittest.TestCase):
@@ -56,6 +80,8 @@ class Sessions(unittest.TestCase):
         self.assert_session(OVERVIEW)
 
     def test_later_sections(self):
-        for section in (LAPSES, ORDERS, BOUNDS, PAPERS):
+        for section in SECTIONS:
             self.assert_session(OVERVIEW + section)
-        self.assert_session(OVERVIEW + LAPSES + ORDERS + BOUNDS + PAPERS)
+
+    def test_all_sections_in_one_session(self):
+        self.assert_session("".join((OVERVIEW, *SECTIONS)))

@@ -20,7 +20,8 @@ METHODS = set(
 )
 DOUBLE = set("__init__ __eq__ __str__ __len__ __add__".split())
 BARRED = (
-    ast.Global, ast.AsyncFunctionDef, ast.AsyncFor, ast.AsyncWith, ast.Await, ast.AnnAssign, ast.Div, ast.Try, ast.With,
+    ast.Global, ast.AsyncFunctionDef, ast.AsyncFor, ast.AsyncWith, ast.Await, ast.AnnAssign, ast.Div, ast.With,
+    ast.Yield, ast.ExceptHandler,
 )
 WORDS = re.compile(
     r"\b(type|typing|enum|Enum|Flag|Generic|Protocol|ABC|namedtuple|NamedTuple|register|mro|elements|open|input|law|"
@@ -142,6 +143,38 @@ class Code(unittest.TestCase):
                     self.assertEqual([type(row) for row in rows], [ast.Return], name)
                 if node.name == "__init__":
                     self.assertFalse([row for row in ast.walk(node) if isinstance(row, ast.Return)], name)
+
+    def test_what_happens_at_last(self):
+        """A `finally` only assigns plain names to attributes, and these names stand ahead of the `try`."""
+        for name, _, tree in trees():
+            for function in ast.walk(tree):
+                if not isinstance(function, ast.FunctionDef):
+                    continue
+                for node in [row for row in ast.walk(function) if isinstance(row, ast.Try)]:
+                    self.assertTrue(node.finalbody)
+                    assigned = {arg.arg for arg in function.args.args}
+                    for row in function.body[: function.body.index(node)]:
+                        assigned |= {part.id for part in ast.walk(row) if isinstance(part, ast.Name)}
+                    for row in node.finalbody:
+                        self.assertIsInstance(row, ast.Assign, name)
+                        self.assertEqual([type(target) for target in row.targets], [ast.Attribute], name)
+                        self.assertIn(row.value.id, assigned, name)
+
+    def test_properties_only_read(self):
+        """A property is one `return`, and no other class assigns an attribute of its name."""
+        properties, assigned = {}, {}
+        for name, _, tree in trees():
+            for made in [row for row in tree.body if isinstance(row, ast.ClassDef)]:
+                for node in ast.walk(made):
+                    if isinstance(node, ast.FunctionDef) and node.decorator_list:
+                        if ast.unparse(node.decorator_list[0]) == "property":
+                            rows = without_docstring(node.body)
+                            self.assertEqual([type(row) for row in rows], [ast.Return], name)
+                            properties[node.name] = made.name
+                    if isinstance(node, ast.Attribute) and isinstance(node.ctx, ast.Store):
+                        assigned[node.attr] = made.name
+        self.assertEqual(set(properties), {"rule", "day", "story", "last", "alive"})
+        self.assertFalse(set(properties) & set(assigned))
 
     def test_generators_are_not_given_to_builtins(self):
         for name, _, tree in trees():
